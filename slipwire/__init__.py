@@ -1,0 +1,1 @@
+"""Slipwire: letters that go in slips over one wire."""
