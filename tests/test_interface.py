@@ -8,10 +8,24 @@ import unittest
 CALLS = {
     "codes": {"is_fault": "(thing)"},
     "masks": {"is_mask": "(thing)", "masked": "(codes, mask, *, start=0)", "mask_of": "(first, number)"},
+    "sizes": {"size_bytes": "(size)", "size_at": "(codes, at)"},
+    "slips": {"Slip": "(kind, talk, data=(), *, last=True, mask=None)", "slip_at": "(codes, at, *, masks)"},
+    "signs": {"is_words": "(thing)", "words_bytes": "(words)", "words_in": "(codes)", "Signs": "()"},
+    "reading": {"Reader": "(masks, *, most=4096)", "events_of": "(codes, *, masks, most=4096)"},
     "errors": {
         "BadSlip": "(part)", "BadLetter": "(part)", "BadEnd": "(part)", "BadText": "(text)", "BadRow": "(row)",
         "Fault": "(code, at)", "NoSlip": "(number)", "NoByte": "(at)", "NoDeed": "(many)", "Ended": "(talk)",
     },
+}
+
+# The methods of each class, and what Python's own functions ask of it.
+METHODS = {
+    ("slips", "Slip"): {"codes": "(self)", "__len__": "(self)", "__eq__": "(self, other)", "__str__": "(self)",
+                        "__repr__": "(self)"},
+    ("signs", "Signs"): {"put": "(self, byte)", "how_many": "(self)", "is_whole": "(self)", "words": "(self)",
+                         "__len__": "(self)", "__eq__": "(self, other)", "__str__": "(self)", "__repr__": "(self)"},
+    ("reading", "Reader"): {"put": "(self, codes)", "begun": "(self)", "ended": "(self)", "how_far": "(self)",
+                            "fault": "(self)", "twin": "(self)"},
 }
 
 
@@ -29,6 +43,14 @@ class Interface(unittest.TestCase):
             for name in calls:
                 with self.subTest(file=file, name=name):
                     self.assertEqual(getattr(module, name).__module__, "slipwire." + file)
+
+    def test_each_method_stands_in_its_class_itself(self):
+        for (file, name), methods in METHODS.items():
+            held = vars(getattr(importlib.import_module("slipwire." + file), name))
+            for method, written in methods.items():
+                with self.subTest(name=name, method=method):
+                    self.assertIn(method, held)
+                    self.assertEqual(str(inspect.signature(held[method])), written)
 
 
 if __name__ == "__main__":

@@ -16,6 +16,10 @@ NotImplemented property staticmethod classmethod super object bytes""".split()
 BARRED_WORDS = """type typing typing_extensions enum Enum IntEnum StrEnum Flag IntFlag Generic Protocol ABC ABCMeta
 namedtuple NamedTuple TypedDict TYPE_CHECKING abstractmethod""".split()
 BARRED_ANYWHERE = ["dataclass", "overload", "contextmanager"]
+METHODS = """append clear copy count endswith extend find get index insert isalnum isalpha isdigit islower isspace
+isupper items join keys ljust lower lstrip partition pop remove replace reverse rfind rjust rpartition rsplit rstrip
+setdefault split splitlines startswith strip update upper values zfill bit_length""".split()
+DUNDERS = "__init__ __eq__ __repr__ __str__ __len__".split()
 STATEMENTS = (ast.Global, ast.AsyncFunctionDef, ast.AsyncFor, ast.AsyncWith, ast.Await, ast.Import)
 
 
@@ -33,6 +37,14 @@ def nodes(kind):
 
 def imported(tree):
     return [node.module for node in ast.walk(tree) if isinstance(node, ast.ImportFrom)]
+
+
+def methods():
+    return [body.name for _, node in nodes(ast.ClassDef) for body in node.body if isinstance(body, ast.FunctionDef)]
+
+
+def stored():
+    return [node.attr for _, node in nodes(ast.Attribute) if isinstance(node.ctx, ast.Store)]
 
 
 class Files(unittest.TestCase):
@@ -116,11 +128,62 @@ class Code(unittest.TestCase):
                 if isinstance(sign, (ast.Is, ast.IsNot)):
                     self.assertIn(ast.dump(right), [ast.dump(ast.Constant(one)) for one in (None, True, False)], path)
 
+    def test_l3_module_level(self):
+        for path, tree in trees():
+            for node in tree.body:
+                self.assertIsInstance(node, (ast.Expr, ast.ImportFrom, ast.Assign, ast.FunctionDef, ast.ClassDef), path)
+                if isinstance(node, ast.Assign):
+                    ast.literal_eval(node.value)
+
+    def test_l7_l24_sums_take_lists_and_no_set_is_stored(self):
+        self.assertEqual(nodes((ast.GeneratorExp, ast.Set, ast.SetComp)), [])
+
+    def test_l15_one_binding_for_each_name(self):
+        for path, tree in trees():
+            bound = [name.name for node in tree.body if isinstance(node, ast.ImportFrom) for name in node.names]
+            bound += [node.name for node in tree.body if isinstance(node, (ast.FunctionDef, ast.ClassDef))]
+            bound += [one.id for node in tree.body if isinstance(node, ast.Assign) for one in node.targets]
+            self.assertEqual(len(bound), len(set(bound)), path)
+            for node in ast.walk(tree):
+                if isinstance(node, ast.FunctionDef):
+                    held = [arg.arg for arg in node.args.args + node.args.kwonlyargs]
+                    held += [one.id for one in ast.walk(node) if isinstance(one, ast.Name)
+                             and isinstance(one.ctx, ast.Store)]
+                    self.assertEqual(sorted(set(held) & set(bound)), [], (path, node.name))
+
     def test_l18_no_name_is_a_method_and_an_attribute(self):
-        methods = [body.name for _, node in nodes(ast.ClassDef) for body in node.body
-                   if isinstance(body, ast.FunctionDef)]
-        stored = [node.attr for _, node in nodes(ast.Attribute) if isinstance(node.ctx, ast.Store)]
-        self.assertEqual(sorted(set(methods) & set(stored)), [])
+        self.assertEqual(sorted(set(methods()) & set(stored())), [])
+
+    def test_l18_l25_l26_methods_and_attributes(self):
+        called = [node.func.attr for _, node in nodes(ast.Call) if isinstance(node.func, ast.Attribute)]
+        self.assertEqual(sorted(set(called) - set(METHODS) - set(methods()) - {"__init__"}), [])
+        read = [node.attr for _, node in nodes(ast.Attribute) if isinstance(node.ctx, ast.Load)]
+        self.assertEqual(sorted(set(read) - set(called) - set(stored())), [])
+        for name in methods() + stored():
+            for kind in (str, int, list, tuple, dict, set, bytes):
+                self.assertTrue(name in DUNDERS or not hasattr(kind, name), name)
+
+    def test_l19_handlers_name_own_errors(self):
+        for path, node in nodes(ast.ExceptHandler):
+            self.assertIn(node.type.id, [name.name for _, name in nodes(ast.ClassDef)], path)
+
+    def test_l27_strings(self):
+        for path, node in nodes(ast.Constant):
+            if isinstance(node.value, str):
+                self.assertNotIn(chr(37), node.value, path)
+
+    def test_l28_double_underscore_methods(self):
+        for path, node in nodes(ast.FunctionDef):
+            if not node.name.startswith("__"):
+                continue
+            self.assertIn(node.name, DUNDERS, path)
+            returns = [one.value for one in ast.walk(node) if isinstance(one, ast.Return)]
+            if node.name == "__init__":
+                self.assertEqual(returns, [], path)
+            elif node.name != "__eq__":
+                self.assertIsInstance(node.body[-1], ast.Return, path)
+            if node.name == "__len__":
+                self.assertEqual([one.func.id for one in returns], ["len"], path)
 
 
 if __name__ == "__main__":
