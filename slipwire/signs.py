@@ -9,9 +9,14 @@ def is_sign(thing):
     return is_number(thing) and (0 <= thing <= 55295 or 57344 <= thing <= 65535)
 
 
+def are_signs(thing):
+    """Whether a thing may be handed in as words: a list or a tuple of signs."""
+    return isinstance(thing, (list, tuple)) and all([is_sign(part) for part in thing])
+
+
 def is_words(thing):
     """Whether a thing is a list of signs."""
-    return isinstance(thing, list) and all([is_sign(part) for part in thing])
+    return isinstance(thing, list) and are_signs(thing)
 
 
 def sign_bytes(sign):

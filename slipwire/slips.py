@@ -48,6 +48,11 @@ class Slip:
         return f"<{str(self)}>"
 
 
+def with_mask(slip, mask):
+    """The same slip, masked by this mask, or not masked where it's None."""
+    return Slip(slip.kind, slip.talk, slip.data, last=slip.last, mask=mask)
+
+
 def head_of(slip):
     head = slip.kind
     if slip.mask is not None:

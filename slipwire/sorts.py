@@ -8,6 +8,8 @@ MORE = 0
 WORDS = 1
 BYTES = 2
 ENDING = 8
+BELL = 9
+ECHO = 10
 
 SORT_WORDS = {0: "more", 1: "words", 2: "bytes", 8: "end", 9: "bell", 10: "echo"}
 

@@ -12,6 +12,9 @@ CALLS = {
     "slips": {"Slip": "(kind, talk, data=(), *, last=True, mask=None)", "slip_at": "(codes, at, *, masks)"},
     "signs": {"is_words": "(thing)", "words_bytes": "(words)", "words_in": "(codes)", "Signs": "()"},
     "reading": {"Reader": "(masks, *, most=4096)", "events_of": "(codes, *, masks, most=4096)"},
+    "cutting": {"slips_for": "(talk, word, data, *, sizes=(), every=100)", "joined_in": "(slips)"},
+    "post": {"Post": "(role, *, mask=(1, 2, 3, 4), most=4096, every=100)"},
+    "wire": {"Wire": "(*, mask=(1, 2, 3, 4), most=4096, every=100)"},
     "errors": {
         "BadSlip": "(part)", "BadLetter": "(part)", "BadEnd": "(part)", "BadText": "(text)", "BadRow": "(row)",
         "Fault": "(code, at)", "NoSlip": "(number)", "NoByte": "(at)", "NoDeed": "(many)", "Ended": "(talk)",
@@ -26,6 +29,19 @@ METHODS = {
                          "__len__": "(self)", "__eq__": "(self, other)", "__str__": "(self)", "__repr__": "(self)"},
     ("reading", "Reader"): {"put": "(self, codes)", "begun": "(self)", "ended": "(self)", "how_far": "(self)",
                             "fault": "(self)", "twin": "(self)"},
+    ("post", "Post"): {"send": "(self, talk, word, data, *, sizes=(), every=None)", "bell": "(self, talk, data=())",
+                       "close": "(self, talk, *, code=1, words=())", "pull": "(self, *, many=None)",
+                       "put": "(self, codes)", "codes_of": "(self, talk)", "state": "(self, talk)",
+                       "is_dead": "(self)", "fault": "(self)", "waits": "(self)", "went": "(self)",
+                       "__repr__": "(self)"},
+    ("wire", "Wire"): {"send": "(self, role, talk, word, data, *, sizes=(), every=None)",
+                       "bell": "(self, role, talk, data=())", "close": "(self, role, talk, *, code=1, words=())",
+                       "go": "(self, role, *, many=None)", "come": "(self, role, *, many=None)", "run": "(self)",
+                       "bend": "(self, role, at, byte)", "break_off": "(self)", "back": "(self)",
+                       "told": "(self, role)", "state": "(self, role, talk)", "codes_of": "(self, role, talk)",
+                       "is_dead": "(self, role)", "fault": "(self, role)", "under_way": "(self, role)",
+                       "is_broken": "(self)", "deeds": "(self)", "as_told": "(self, many)", "twin": "(self)",
+                       "log": "(self)", "is_open": "(self)", "__repr__": "(self)"},
 }
 
 
