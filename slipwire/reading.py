@@ -48,6 +48,10 @@ class Reader:
         """The pair (code, at), None where there is no fault."""
         return self.wrong
 
+    def next_part(self):
+        """The word of the part of a slip in which the next byte stands."""
+        return self.coming.next_part()
+
     def twin(self):
         """A Reader of its own that stands where this one does."""
         other = Reader(self.masks, most=self.most)

@@ -22,6 +22,14 @@ GREATEST_TALK = 31
 GREATEST_CONTROL = 120
 
 
+def sort_of(word):
+    """The sort of that word, None where there is none."""
+    for sort, named in SORT_WORDS.items():
+        if named == word:
+            return sort
+    return None
+
+
 def is_control(sort):
     return sort >= ENDING
 

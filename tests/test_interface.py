@@ -15,6 +15,13 @@ CALLS = {
     "cutting": {"slips_for": "(talk, word, data, *, sizes=(), every=100)", "joined_in": "(slips)"},
     "post": {"Post": "(role, *, mask=(1, 2, 3, 4), most=4096, every=100)"},
     "wire": {"Wire": "(*, mask=(1, 2, 3, 4), most=4096, every=100)"},
+    "reports": {"report": "(codes, *, masks, most=4096)", "shows_report": "(codes, thing, *, masks, most=4096)",
+                "fault_of": "(codes, *, masks, most=4096)", "whole_to": "(codes, *, masks, most=4096)",
+                "shows_fault": "(codes, thing, *, masks, most=4096)",
+                "remasked": "(codes, mask, *, masks, most=4096)"},
+    "sliptext": {"slip_text": "(slip)", "slip_in": "(text)"},
+    "dumps": {"dump": "(codes)", "dumped_in": "(text)", "event_text": "(event)"},
+    "desk": {"answers": "(text, *, most=4096)"},
     "errors": {
         "BadSlip": "(part)", "BadLetter": "(part)", "BadEnd": "(part)", "BadText": "(text)", "BadRow": "(row)",
         "Fault": "(code, at)", "NoSlip": "(number)", "NoByte": "(at)", "NoDeed": "(many)", "Ended": "(talk)",

@@ -130,10 +130,22 @@ class Code(unittest.TestCase):
 
     def test_l3_module_level(self):
         for path, tree in trees():
+            above = []
             for node in tree.body:
                 self.assertIsInstance(node, (ast.Expr, ast.ImportFrom, ast.Assign, ast.FunctionDef, ast.ClassDef), path)
+                if isinstance(node, ast.FunctionDef):
+                    above.append(node.name)
                 if isinstance(node, ast.Assign):
-                    ast.literal_eval(node.value)
+                    self.assert_plain(node.value, above, path)
+
+    def assert_plain(self, value, above, path):
+        """A plain value, or a table of functions that are defined above in the same file."""
+        if isinstance(value, ast.Dict) and any(isinstance(one, ast.Name) for one in value.values):
+            for key, one in zip(value.keys, value.values):
+                ast.literal_eval(key)
+                self.assertIn(getattr(one, "id", None), above, path)
+        else:
+            ast.literal_eval(value)
 
     def test_l7_l24_sums_take_lists_and_no_set_is_stored(self):
         self.assertEqual(nodes((ast.GeneratorExp, ast.Set, ast.SetComp)), [])
