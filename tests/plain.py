@@ -37,6 +37,19 @@ def slip_row(kind, talk, data=(), *, last=True, mask=None):
     return row + [byte ^ (mask or (0,) * 4)[place % 4] for place, byte in enumerate(data)]
 
 
+MASK = (200, 7, 0, 255)
+
+
+def rows(*slips, masks=False):
+    """The bytes of slips, each told as (kind, talk, data, last), the last ones of these left out or not."""
+    codes = []
+    for number, (kind, talk, *rest) in enumerate(slips):
+        data, last = (rest + [(), True][len(rest):])
+        mask = tuple((byte + number) % 256 for byte in MASK) if masks else None
+        codes += slip_row(kind, talk, data, last=last, mask=mask)
+    return codes
+
+
 class Plain:
     """What a Reader should tell of codes, read slip by slip; of each, all faults are gathered, and the first goes."""
 

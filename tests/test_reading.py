@@ -3,7 +3,7 @@
 import itertools
 import unittest
 
-from plain import as_utf8, slip_row
+from plain import as_utf8, rows
 from slipwire.codes import MOST
 from slipwire.errors import Fault
 from slipwire.reading import Reader, events_of
@@ -11,18 +11,7 @@ from slipwire.slips import Slip
 from things import same
 
 MORE, WORDS, BYTES, END, BELL, ECHO = 0, 1, 2, 8, 9, 10
-MASK = (200, 7, 0, 255)
 EURO = [226, 130, 172]
-
-
-def rows(*slips, masks=False):
-    """The bytes of slips, each told as (kind, talk, data, last), the last ones of these left out or not."""
-    codes = []
-    for number, (kind, talk, *rest) in enumerate(slips):
-        data, last = (rest + [(), True][len(rest):])
-        mask = tuple((byte + number) % 256 for byte in MASK) if masks else None
-        codes += slip_row(kind, talk, data, last=last, mask=mask)
-    return codes
 
 
 class Reading(unittest.TestCase):

@@ -5,7 +5,7 @@ import random
 import unittest
 
 from draws import any_codes, bent
-from plain import Plain, slip_row
+from plain import Plain, rows, slip_row
 from slipwire.errors import Fault
 from slipwire.masks import mask_of
 from slipwire.reading import events_of
@@ -13,7 +13,6 @@ from slipwire.reports import fault_of, remasked, report, shows_fault, shows_repo
 from things import same, things
 
 MORE, WORDS, BYTES, END, BELL, ECHO = 0, 1, 2, 8, 9, 10
-MASK = (200, 7, 0, 255)
 PARTS = ("head", "talk", "size", "mask", "data")
 
 # A row of bytes for each fault, that stands at its last byte; those of 13 and 15 with slips that aren't masked.
@@ -23,16 +22,6 @@ FAULTY = {10: [[64], [3], [8], [16]], 11: [[33, 32], [41, 255]],
           14: [[33, 3, 9, 65, 255], [33, 3, 1, 226], [1, 3, 1, 226, 32, 3, 0], [40, 3, 3, 0, 1, 226]],
           15: [[34, 3, 11], [34, 3, 250, 1, 0], [34, 3, 251, 1, 0, 0], [2, 3, 1, 5, 32, 3, 10]],
           16: [[40, 3, 1], [40, 3, 2, 1], [40, 3, 2, 0, 0], [40, 3, 2, 0, 200]]}
-
-
-def rows(*slips, masks=False):
-    """The bytes of slips, each told as (kind, talk, data, last), the last ones of these left out or not."""
-    codes = []
-    for number, (kind, talk, *rest) in enumerate(slips):
-        data, last = (rest + [(), True][len(rest):])
-        mask = tuple((byte + number) % 256 for byte in MASK) if masks else None
-        codes += slip_row(kind, talk, data, last=last, mask=mask)
-    return codes
 
 
 def plain_spans(codes, masks, far):
